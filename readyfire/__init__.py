@@ -1,0 +1,1 @@
+"""Readyfire: steps that fire when all that they need lies ready."""
