@@ -68,12 +68,22 @@ def is_plan(plan):
     return all_unlike([step[0] for step in plan]) and all_unlike(given_places(plan))
 
 
+def all_places(plan):
+    """The places of the plan, as they first come, a step's needs ahead of its gives."""
+    found = []
+    for step in plan:
+        for place in [*step[2], *step[3]]:
+            if place not in found:
+                found.append(place)
+    return found
+
+
 def outside(plan):
     """The list of the places to which no step gives, as they first come in the plan."""
     given = given_places(plan)
-    found = []
-    for step in plan:
-        for place in step[2]:
-            if place not in given and place not in found:
-                found.append(place)
-    return found
+    return [place for place in all_places(plan) if place not in given]
+
+
+def is_later(step):
+    """Tell whether what the step gives is for the next turn."""
+    return step[1][0] == "later"

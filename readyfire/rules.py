@@ -3,12 +3,15 @@
 MILLION = 1000000
 
 
+def is_whole(thing):
+    """Tell whether a number, a truth value, a text or None is a whole number."""
+    # Python counts True and False as whole numbers; here they are none.
+    return isinstance(thing, int) and not isinstance(thing, bool)
+
+
 def is_value(thing):
     """Tell whether a number, a truth value, a text or None is a value."""
-    # Python counts True and False as whole numbers; here they are no values.
-    if isinstance(thing, bool) or not isinstance(thing, int):
-        return False
-    return 0 <= thing < MILLION
+    return is_whole(thing) and 0 <= thing < MILLION
 
 
 def last_figures(number):
@@ -44,11 +47,14 @@ def first_of(values):
     return values[0]
 
 
+def chosen_at(first):
+    """The place, among the three needs of a choose, of the one it needs by its first value."""
+    return 1 if first == 0 else 2
+
+
 def chosen_of(values):
     """The second value where the first one is 0, else the third one."""
-    if values[0] == 0:
-        return values[1]
-    return values[2]
+    return values[chosen_at(values[0])]
 
 
 # Of each rule that gives every place one and the same value worked out of the needed ones.

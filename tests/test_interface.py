@@ -1,12 +1,14 @@
 """The interface of DOC.md, and the form of the package's files."""
 
 import ast
+import builtins
 import importlib
 import inspect
 import os
 import unittest
 
 import readyfire
+from readyfire.boards import Board
 
 FOLDER = os.path.dirname(readyfire.__file__)
 CLASSES = {
@@ -14,11 +16,29 @@ CLASSES = {
         "FireError", "NoPlan", "NoTurn", "NoPlace", "NoValue", "TokenThere",
         "NoStep", "Fired", "NotReady", "IsReady", "NoText",
     ),
+    "readyfire.boards": ("Board",),
 }
 FUNCTIONS = {
     "readyfire.rules": {"is_value": ["thing"], "outcome": ["rule", "values", "many"]},
     "readyfire.plans": {"is_plan": ["plan"], "outside": ["plan"]},
+    "readyfire.boards": {"run": ["board"]},
+    "readyfire.stuck": {"waiting": ["board"], "why": ["board", "name", "turn"]},
+    "readyfire.texts": {"shown": ["plan"], "read": ["text"]},
 }
+METHODS = {
+    "__init__": ["self", "plan", "turns"],
+    "put": ["self", "place", "turn", "value"],
+    "fire": ["self", "name", "turn"],
+    "at": ["self", "place", "turn"],
+    "told": ["self", "place"],
+    "ready": ["self"],
+    "fired": ["self"],
+}
+# No clock, no chance, no files: the package calls no more of Python's own than these.
+BUILTINS = (
+    "ValueError", "all", "any", "enumerate", "int", "isinstance", "bool", "len", "list", "max", "min", "range",
+    "set", "sorted", "str", "sum", "tuple", "zip",
+)
 
 
 def package_files():
@@ -47,6 +67,14 @@ class InterfaceTest(unittest.TestCase):
                     self.assertTrue(inspect.isfunction(found))
                     self.assertEqual(found.__module__, module)
                     self.assertEqual(list(inspect.signature(found).parameters), arguments)
+
+
+    def test_each_method_is_defined_in_its_class_with_its_arguments(self):
+        for name, arguments in METHODS.items():
+            with self.subTest(name):
+                found = Board.__dict__[name]
+                self.assertTrue(inspect.isfunction(found))
+                self.assertEqual(list(inspect.signature(found).parameters), arguments)
 
 
 class FormTest(unittest.TestCase):
@@ -78,6 +106,13 @@ class FormTest(unittest.TestCase):
                     if isinstance(node, ast.ImportFrom):
                         self.assertEqual(node.level, 0)
                         self.assertTrue(node.module.startswith("readyfire."))
+
+    def test_no_more_of_pythons_own_is_used_than_listed(self):
+        for name in package_files():
+            for node in ast.walk(ast.parse(source_of(name))):
+                if isinstance(node, ast.Name) and hasattr(builtins, node.id):
+                    with self.subTest(name):
+                        self.assertIn(node.id, BUILTINS)
 
 
 if __name__ == "__main__":
